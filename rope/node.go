@@ -165,6 +165,9 @@ func (n *node) upto(way int, most int) int {
 	if n == nil {
 		return 0
 	}
+	if n.By(way) <= most {
+		return n.Bytes
+	}
 	rest := most - n.left.all().By(way)
 	if rest < 0 {
 		return n.left.upto(way, most)
