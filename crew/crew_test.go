@@ -238,8 +238,28 @@ func TestP28_2Choose(t *testing.T) {
 			t.Errorf("Choose: %d, not %d", e, c.want)
 		}
 	}
+	if got, e := Choose(insert(t, state("", sel(0, 0)), "${1|x|}y"), 0); e != api.OK || tell(got) != "xy 0-1 @1 0-2/2" {
+		t.Errorf("one option: %q, %d", tell(got), e)
+	}
 	full := strings.Repeat("a", api.MaxDoc-3)
 	if got, e := Choose(insert(t, state(full, sel(0, 0)), "${1|x,y,zzzz|}"), 2); e != api.ErrSize || got.Text != "" {
 		t.Errorf("too long an option: %d", e)
+	}
+}
+
+// A stop that stands in one of its own number, as in no snippet, is copied over; what stands in it is gone then.
+func TestP28_TheSessionIsGone(t *testing.T) {
+	stop := func(from, to, n, up int, opts ...string) api.Stop {
+		return api.Stop{Span: api.Span{From: from, To: to}, N: n, Up: up, Opts: opts}
+	}
+	outer := api.Session{Cur: 1, Insts: []api.Inst{{Span: api.Span{To: 3}, Stops: []api.Stop{stop(0, 3, 2, -1), stop(0, 2, 2, 0), stop(0, 1, 1, 1)}}}}
+	inner := api.Session{Cur: 5, Insts: []api.Inst{{Span: api.Span{To: 1}, Stops: []api.Stop{stop(0, 1, 5, -1, "p", "q")}}}}
+	st := api.State{Text: "abc", Sels: []api.Sel{sel(0, 0)}, Sessions: []api.Session{outer, inner}}
+	if got, e := Choose(st, 1); e != api.OK || tell(got) != "qbcc 3-3" {
+		t.Errorf("Choose: %q, %d", tell(got), e)
+	}
+	st.Sessions = st.Sessions[:1]
+	if got, e := Insert(st, read(t, "<$1>")); e != api.OK || tell(got) != "<>abcc 5-5" {
+		t.Errorf("Insert: %q, %d", tell(got), e)
 	}
 }

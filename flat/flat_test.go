@@ -27,7 +27,7 @@ func tell(stops []api.Stop) string {
 	var all []string
 	for _, s := range stops {
 		one := strconv.Itoa(s.N) + ":" + strconv.Itoa(s.From) + "-" + strconv.Itoa(s.To)
-		if s.Up >= 0 {
+		if s.Up != -1 {
 			one += "^" + strconv.Itoa(s.Up)
 		}
 		if s.First {
@@ -157,6 +157,16 @@ func TestP25_1SizeIsFoundSoon(t *testing.T) {
 	text, _, e := Make(read(t, "\n"), nil, far[1:], "")
 	if len(text) != api.MaxDoc || e != api.OK {
 		t.Error("a text at the limit")
+	}
+	for _, s := range []string{"\n\t\t\t\t\n\t", "${1|\n\t\t\t\t\n\t|}"} {
+		for size, want := range map[int]api.Errno{api.MaxDoc: api.OK, api.MaxDoc + 1: api.ErrSize} {
+			lead := strings.Repeat("-", 3000)
+			unit := strings.Repeat(".", (size-2*3000-2)/5)
+			rest := strings.Repeat("x", size-2*3000-2-5*len(unit))
+			if text, _, e := Make(read(t, s+rest), nil, lead, unit); e != want || e == api.OK && len(text) != size {
+				t.Errorf("%q and %d bytes, %d in all: %d", s, len(rest), size, e)
+			}
+		}
 	}
 	doubling := "${1:aaaaaaaa}"
 	for n := 2; n < 40; n++ {

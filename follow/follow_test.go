@@ -89,6 +89,12 @@ func TestP27_1May(t *testing.T) {
 		t.Error("MaxSessions sessions")
 	}
 	many.Sessions = append(many.Sessions, many.Sessions[0])
+	if bare := (api.State{Sels: []api.Sel{{}}, Sessions: []api.Session{{Cur: 1}}}); May(bare) {
+		t.Error("a session without instances")
+	}
+	if !May(api.State{Text: strings.Repeat("x", api.MaxDoc), Sels: []api.Sel{{}}}) {
+		t.Error("a text at the limit")
+	}
 	if May(many) || !May(api.State{Sels: []api.Sel{{}}}) {
 		t.Error("one too many; an empty text")
 	}
@@ -181,8 +187,14 @@ func TestP27_2AgainstTheModel(t *testing.T) {
 		from := rnd.Intn(len(state.Text) + 1)
 		e := ed(from, from+rnd.Intn(len(state.Text)-from+1), "xyz"[:rnd.Intn(4)])
 		oi, oj := -1, -1
-		if rnd.Intn(4) > 0 {
+		switch rnd.Intn(4) {
+		case 0, 1:
 			oi, oj = Owner(s, e.Span)
+		case 2: // a stop that is far from the edit, perhaps
+			oi = rnd.Intn(len(s.Insts))
+			if oj = rnd.Intn(len(s.Insts[oi].Stops)+1) - 1; oj < 0 {
+				oi = -1
+			}
 		}
 		if got, want := Shift(s, oi, oj, e), modelShift(s, oi, oj, e, false, nil); !deep.SameSession(got, want) {
 			t.Fatalf("%s, %v, owner %d, %d: %s, not %s", tell(s), e, oi, oj, tell(got), tell(want))
@@ -261,6 +273,25 @@ func TestP27_3Nested(t *testing.T) {
 	got, e = Do(outer, ed(2, 3, "x"))
 	if e != api.OK || got.Text != "abxab" || len(got.Sessions) != 0 {
 		t.Errorf("typed outside: %q, %d sessions", got.Text, len(got.Sessions))
+	}
+}
+
+// The owner in an outer session is a stop around the instance that owns the edit in the next inner one; another stop may
+// well lie around what is typed.
+func TestP27_3OwnersAroundOwners(t *testing.T) {
+	id := func(x api.Stop, id string) api.Stop {
+		x.Opts = []string{id}
+		return x
+	}
+	state := api.State{Text: "abcdef", Sels: []api.Sel{{}}, Sessions: []api.Session{
+		{Cur: 1, Insts: []api.Inst{inst(0, 6, id(st(0, 2, 1, -1), "a"), id(st(2, 5, 1, -1), "b"))}},
+		{Cur: 3, Insts: []api.Inst{inst(2, 4, id(st(2, 4, 3, -1), "c"))}},
+		{Cur: 5, Insts: []api.Inst{inst(2, 2, id(st(2, 2, 5, -1), "d"))}},
+	}}
+	got, e := Do(state, ed(2, 2, "x"))
+	want, _ := modelDo(state, ed(2, 2, "x"))
+	if e != api.OK || got.Text != "xcdexcdef" || !deep.SameState(got, want) || len(got.Sessions) != 3 {
+		t.Errorf("%+v, %d, not %+v", got, e, want)
 	}
 }
 

@@ -214,7 +214,10 @@ func TestP7_3Nested(t *testing.T) {
 
 func TestR3Nil(t *testing.T) {
 	var tab *Table
-	_, a := tab.Add(rg(0, 0, 0))
+	id, a := tab.Add(rg(0, 0, 0))
+	if id != 0 {
+		t.Errorf("id %d", id)
+	}
 	for _, e := range []api.Errno{a, tab.Pose(1, true, true), tab.Drop(1), tab.Move()} {
 		if e != api.ErrNil {
 			t.Errorf("%d, not ErrNil", e)

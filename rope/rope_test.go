@@ -98,6 +98,10 @@ func TestP3_1CutJoin(t *testing.T) {
 	if big.Join(o) != api.ErrSize || o.Text() != "bcd" || big.Len() != api.MaxDoc-2 {
 		t.Error("Join beyond the limit")
 	}
+	full, rest := must(t, dice.New(), strings.Repeat("x", api.MaxDoc-3)), must(t, dice.New(), "abc")
+	if full.Join(rest) != api.OK || full.Len() != api.MaxDoc {
+		t.Error("Join up to the limit")
+	}
 	if o.Join(r) != api.OK || o.Text() != "bcda" || r.Text() != "" || r.Len() != 0 {
 		t.Error("Join")
 	}

@@ -56,7 +56,7 @@ func TestP31_1ReadRefused(t *testing.T) {
 		"dice\ntype 3:ab\n": 2, "dice\ntype 2:abc\n": 2, "dice\ntype 3:ab": 2, "dice\ntype ab\n": 2, "dice\ntype\n": 2, "dice\ntype -1:\n": 2, "dice\ntype 01:a\n": 2, "dice\ntype -0:\n": 2,
 		"dice\ntype 2 ab\n": 2, "dice\ntype 1:a 1:b\n": 2, "dice\ntype 999999999999999999:a\n": 2, "dice\ntype  1:a\n": 2, "dice\ntype :a\n": 2,
 		"dice\nset 1:A\n": 2, "dice\nset 1:A1:b\n": 2, "dice\nerase\n": 2, "dice\nerase +1\n": 2, "dice\nerase 01\n": 2, "dice\nerase -0\n": 2, "dice\nerase -01\n": 2, "dice\nerase 1000000000000000000\n": 2,
-		"dice\nerase --1\n": 2, "dice\nerase -\n": 2, "dice\nerase 1a\n": 2, "dice\nedit 1\n": 2, "dice\nedit 1 2\n": 2, "dice\nedit 1 2 1:a 3\n": 2, "dice\nedit \n": 2, "dice\nselect 1\n": 2, "dice\nselect 1 2 3\n": 2,
+		"dice\nerase --1\n": 2, "dice\nerase -\n": 2, "dice\nerase 1a\n": 2, "dice\nedit -0 1:a\n": 2, "dice\nedit -0 1 1:a\n": 2, "dice\nedit 1 -0 1:a\n": 2, "dice\nselect -0 1\n": 2, "dice\nselect 1 -0\n": 2, "dice\nselect -0\n": 2, "dice\nmove -0 1\n": 2, "dice\nedit 1\n": 2, "dice\nedit 1 2\n": 2, "dice\nedit 1 2 1:a 3\n": 2, "dice\nedit \n": 2, "dice\nselect 1\n": 2, "dice\nselect 1 2 3\n": 2,
 		"dice\nmove 1\n": 2, "dice\nmove 1 2\n": 2, "dice\nmove 1 00\n": 2, "dice\nmove 1 -1\n": 2, "dice\nmove 0\n": 2, "dice\nchoose\n": 2, "dice\ninsert\n": 2, "dice\nundo\x00\n": 2,
 		"dice\ntype 3:\n\n\n\nfoo\n": 3, "dice\nnext\nprev\nundo": 4, "dice\nset 1:\n 2:\n\n\nerase x\n": 3,
 	} {

@@ -143,6 +143,9 @@ func TestP20_1Join(t *testing.T) {
 	if got := Join(text("a"), text(""), text("b")); !Same(got, []api.Snip{text("ab")}) {
 		t.Errorf("the example: %v", got)
 	}
+	if got := Join(text("a"), stop(1), text("b")); !Same(got, []api.Snip{text("a"), stop(1), text("b")}) {
+		t.Errorf("texts of one byte: %v", got)
+	}
 	if len(Join()) != 0 || len(Join(text(""), text(""))) != 0 {
 		t.Error("nothing")
 	}

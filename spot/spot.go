@@ -52,12 +52,10 @@ func (s *Spot) Number() (int, bool) {
 }
 
 // Escape passes a backslash, if one of the bytes of escapable is behind it.
-func (s *Spot) Escape(escapable string) bool {
-	if !s.Has('\\') || s.At+1 == len(s.Text) || strings.IndexByte(escapable, s.Text[s.At+1]) < 0 {
-		return false
+func (s *Spot) Escape(escapable string) {
+	if s.Has('\\') && s.At+1 < len(s.Text) && strings.IndexByte(escapable, s.Text[s.At+1]) >= 0 {
+		s.At++
 	}
-	s.At++
-	return true
 }
 
 // Until passes everything up to the first end that is not escaped, and that end, and returns the text before it without

@@ -1,6 +1,9 @@
 package spot
 
-import "testing"
+import (
+	"strings"
+	"testing"
+)
 
 func TestTake(t *testing.T) {
 	s := Spot{Text: "ab\x00"}
@@ -13,10 +16,10 @@ func TestTake(t *testing.T) {
 }
 
 func TestNumber(t *testing.T) {
-	for text, want := range map[string]int{"0": 0, "7x": 7, "9999": 9999, "0001": 1, "12 3": 12, "": -1, "x": -1, "12345": -1, "00000": -1, "-1": -1} {
+	for text, want := range map[string]int{"0": 0, "7x": 7, "9999": 9999, "0001": 1, "12 3": 12, "": -1, "x": -1, "12345": -1, "00000": -1, "123456": -1, "1234567x": -1, "-1": -1} {
 		s := Spot{Text: text}
 		n, ok := s.Number()
-		if ok != (want >= 0) || ok && n != want || !ok && (n != 0 || s.At != 0) {
+		if ok != (want >= 0) || ok && n != want || !ok && (n != 0 || s.At != 0) || ok && s.At != len(strings.TrimRight(strings.TrimSuffix(text, " 3"), "x")) {
 			t.Errorf("Number of %q: %d, %v", text, n, ok)
 		}
 	}

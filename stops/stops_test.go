@@ -169,6 +169,10 @@ func TestP26_3Order(t *testing.T) {
 
 func TestP26_3Source(t *testing.T) {
 	i := inst(0, 9, turned(first(st(0, 0, 1, -1))), st(0, 0, 1, -1), first(st(0, 0, 1, -1)), first(st(0, 0, 1, -1)), st(0, 0, 2, -1), st(0, 0, 2, -1), turned(st(0, 0, 3, -1)))
+	two := inst(0, 9, first(st(0, 0, 1, -1)), first(st(0, 0, 1, -1)))
+	if Source(two, 1, nil) != 0 || Source(of(1, 1, 1), 1, nil) != 0 || Source(of(1, 1, 1), 1, []bool{true, true}) != 0 {
+		t.Error("the stop with index 0")
+	}
 	for k, c := range []struct {
 		n    int
 		held []bool
@@ -176,7 +180,7 @@ func TestP26_3Source(t *testing.T) {
 	}{
 		{1, nil, 2}, {1, []bool{true}, 2}, {1, []bool{false, true}, 1}, {1, []bool{true, false, false, true, true}, 3}, {2, nil, 4},
 		{2, []bool{true, true, true, true, false, true}, 5}, {2, []bool{false, false, false, false, true, true}, 4}, {3, []bool{true, true, true, true, true, true, true}, -1},
-		{9, nil, -1}, {1, make([]bool, 100), 2}, {1, []bool{false, true, true}, 1},
+		{9, nil, -1}, {4, nil, -1}, {1, make([]bool, 100), 2}, {1, []bool{false, true, true}, 1},
 	} {
 		if got := Source(i, c.n, c.held); got != c.want {
 			t.Errorf("case %d: %d, not %d", k, got, c.want)

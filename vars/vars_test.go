@@ -81,7 +81,7 @@ func TestP23_1SetRefused(t *testing.T) {
 		want        api.Errno
 	}{
 		{"9a", big + "x", full, api.ErrArg}, {"", "", nil, api.ErrArg}, {strings.Repeat("a", 65), "", nil, api.ErrArg}, {"A", big + "x", full, api.ErrSize},
-		{"A", big, full, api.ErrFull}, {"V63", big, full, api.OK}, {"A", big, full[:63], api.OK}, {"A", "", append(full, api.Pair{}), api.ErrFull},
+		{"A", big, full, api.ErrFull}, {"V63", big, full, api.OK}, {"V0", big, full, api.OK}, {"V1", big, full, api.OK}, {"A", big, full[:63], api.OK}, {"A", "", append(full, api.Pair{}), api.ErrFull},
 	} {
 		if got, e := Set(c.name, c.value, c.env...); e != c.want || e != api.OK && got != nil {
 			t.Errorf("Set of %q: %d, not %d", c.name, e, c.want)
@@ -101,6 +101,7 @@ func TestP23_2Place(t *testing.T) {
 		{"a\n b-é_9\n", 6, 6, nil, pairs("TM_CURRENT_LINE", " b-é_9", "TM_CURRENT_WORD", "é_9", "TM_LINE_INDEX", "1", "TM_LINE_NUMBER", "2")},
 		{"a\n b-é_9\n", 9, 9, nil, pairs("TM_CURRENT_LINE", " b-é_9", "TM_CURRENT_WORD", "é_9", "TM_LINE_INDEX", "1", "TM_LINE_NUMBER", "2")},
 		{"a\n", 2, 2, nil, pairs("TM_CURRENT_LINE", "", "TM_LINE_INDEX", "1", "TM_LINE_NUMBER", "2")},
+		{"-a-", 1, 2, nil, pairs("TM_SELECTED_TEXT", "a", "TM_CURRENT_LINE", "-a-", "TM_CURRENT_WORD", "a", "TM_LINE_INDEX", "0", "TM_LINE_NUMBER", "1")},
 		{"a - b", 2, 2, nil, pairs("TM_CURRENT_LINE", "a - b", "TM_LINE_INDEX", "0", "TM_LINE_NUMBER", "1")},
 		{"", 0, 0, pairs("TM_FILEPATH", "/a/b.c.go", "TM_FILEPATH", "x"), pairs("TM_CURRENT_LINE", "", "TM_LINE_INDEX", "0", "TM_LINE_NUMBER", "1",
 			"TM_FILENAME", "b.c.go", "TM_FILENAME_BASE", "b.c", "TM_DIRECTORY", "/a", "TM_FILEPATH", "/a/b.c.go", "TM_FILEPATH", "x")},
